@@ -1,0 +1,1 @@
+"""Pipelines of stable sorts, reversals and unique rows."""
