@@ -3,10 +3,21 @@
 import copy
 import random
 
+from tablepipe.errors import InvalidCommand, InvalidTable, InvalidWidth
+
+BIG = 10 ** 12
 COMMANDS_BY_WIDTH = {
     width: [("reverse",)] + [(name, column) for column in range(width) for name in ("sort", "sort_down", "unique")]
     for width in range(1, 8)
 }
+# None of these is a command for two columns.
+WRONG_COMMANDS = [
+    ("drop",), ("drop", 0), ("Sort", 0), ("",), ("", 0), ("sort ", 0), ("position", 0),
+    ("sort",), ("sort_down",), ("unique",),
+    ("reverse", 0), ("reverse", -1), ("reverse", 5),
+    ("sort", -1), ("sort_down", -1), ("unique", -1),
+    ("sort", 2), ("sort_down", 2), ("unique", 2), ("unique", BIG), ("sort", -BIG),
+]
 
 
 def random_pipeline(source, width, length):
@@ -22,6 +33,26 @@ def numbers(seed):
     return random.Random(seed)
 
 
+def written_otherwise(source, pipeline):
+    """A pipeline that means the same: commands are added that change nothing, and some are exchanged."""
+    result = []
+    done = []
+    for command in pipeline:
+        if source.random() < 0.3:
+            result += [("reverse",), ("reverse",)]
+        if done and source.random() < 0.4:
+            result.append(("unique", source.choice(done)))
+        if command[0].startswith("sort") and source.random() < 0.5:
+            result.append((source.choice(["sort", "sort_down"]), command[1]))
+        result.append(command)
+        if command[0] == "unique":
+            done.append(command[1])
+            before = result[-2] if len(result) > 1 else ("reverse",)
+            if before[0].startswith("sort") and before[1] == command[1]:
+                result[-2:] = [command, before]
+    return result
+
+
 class Checks:
     """Assertions, for a TestCase beside it."""
 
@@ -35,3 +66,22 @@ class Checks:
         before = copy.deepcopy(arguments)
         call(*arguments)
         self.assertEqual(arguments, before)
+
+    def assert_width_checked(self, call, *arguments):
+        """The Width check, of a call that takes a width before these arguments."""
+        for width in (0, -1, -BIG):
+            self.assert_error(InvalidWidth, width, call, width, *arguments)
+
+    def assert_pipeline_checked(self, call):
+        """The Pipeline check, of a call that takes a pipeline for two columns."""
+        for element in WRONG_COMMANDS:
+            with self.subTest(element):
+                self.assert_error(InvalidCommand, 0, call, [element])
+                self.assert_error(InvalidCommand, 3, call, [("sort", 0), ("reverse",), ("unique", 1), element, ("",)])
+
+    def assert_table_checked(self, call):
+        """The Table check, of a call that takes a table of two columns."""
+        self.assert_error(InvalidTable, 0, call, [()])
+        self.assert_error(InvalidTable, 0, call, [(1,), (1, 2, 3)])
+        self.assert_error(InvalidTable, 1, call, [(1, 2), (1, 2, 3)])
+        self.assert_error(InvalidTable, 2, call, [(1, 2), (3, 4), (5,), (6, 7), ()])

@@ -1,7 +1,7 @@
 import itertools
 import unittest
 
-from helpers import COMMANDS_BY_WIDTH, Checks, numbers, random_pipeline, random_table
+from helpers import COMMANDS_BY_WIDTH, WRONG_COMMANDS, Checks, numbers, random_pipeline, random_table
 from tablepipe import forms
 from tablepipe.errors import InvalidCommand, InvalidWidth, TableError
 from tablepipe.forms import equivalent, form_of
@@ -232,18 +232,13 @@ class Equivalence(unittest.TestCase):
 
 
 class Errors(unittest.TestCase, Checks):
-    WRONG = [
-        ("drop",), ("drop", 0), ("sort",), ("sort_down",), ("unique",), ("reverse", 0),
-        ("sort", -1), ("sort", 2), ("sort_down", -1), ("sort_down", 2), ("unique", -1), ("unique", 2),
-    ]
-
     def test_the_width(self):
         for width in (0, -1, -10 ** 12):
             self.assert_error(InvalidWidth, width, form_of, width, [])
             self.assert_error(InvalidWidth, width, equivalent, width, [], [])
 
     def test_the_first_wrong_command(self):
-        for element in self.WRONG:
+        for element in WRONG_COMMANDS:
             with self.subTest(element):
                 wrong = [("sort", 0), ("unique", 1), element, ("drop",)]
                 self.assert_error(InvalidCommand, 0, form_of, 2, [element])

@@ -1,12 +1,10 @@
 import copy
 import unittest
 
-from helpers import COMMANDS_BY_WIDTH, Checks, numbers, random_pipeline, random_table
+from helpers import BIG, COMMANDS_BY_WIDTH, WRONG_COMMANDS, Checks, numbers, random_pipeline, random_table
 from tablepipe import running
 from tablepipe.errors import InvalidCommand, InvalidTable, InvalidWidth, TableError
 from tablepipe.running import positions, run
-
-BIG = 10 ** 12
 
 
 def slow_positions(pipeline, table):
@@ -159,14 +157,6 @@ class LongPipelines(unittest.TestCase):
 
 
 class Errors(unittest.TestCase, Checks):
-    WRONG = [
-        ("drop",), ("drop", 0), ("Sort", 0), ("",), ("", 0), ("sort ", 0), ("position", 0),
-        ("sort",), ("sort_down",), ("unique",),
-        ("reverse", 0), ("reverse", -1), ("reverse", 5),
-        ("sort", -1), ("sort_down", -1), ("unique", -1),
-        ("sort", 2), ("sort_down", 2), ("unique", 2), ("unique", BIG), ("sort", -BIG),
-    ]
-
     def check(self, kind, value, *arguments):
         self.assert_error(kind, value, run, *arguments)
         self.assert_error(kind, value, positions, *arguments)
@@ -176,7 +166,7 @@ class Errors(unittest.TestCase, Checks):
             self.check(InvalidWidth, width, width, [], [])
 
     def test_each_kind_of_wrong_command(self):
-        for element in self.WRONG:
+        for element in WRONG_COMMANDS:
             with self.subTest(element):
                 self.check(InvalidCommand, 0, 2, [element], [])
                 self.check(InvalidCommand, 3, 2, [("sort", 0), ("reverse",), ("unique", 1), element], [(1, 2)])
@@ -188,8 +178,8 @@ class Errors(unittest.TestCase, Checks):
                     self.assertEqual(positions(width, [command], [(1,) * width]), [0])
 
     def test_the_first_wrong_command_is_named(self):
-        for element in self.WRONG:
-            for later in self.WRONG:
+        for element in WRONG_COMMANDS:
+            for later in WRONG_COMMANDS:
                 with self.subTest(element, later=later):
                     self.check(InvalidCommand, 1, 2, [("reverse",), element, later, ("sort", 1)], [])
 
