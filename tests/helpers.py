@@ -24,6 +24,14 @@ def random_pipeline(source, width, length):
     return [source.choice(COMMANDS_BY_WIDTH[width]) for _ in range(length)]
 
 
+def mixed_pipeline(source, width):
+    """A pipeline with a unique command of each of some columns, and with other commands around them."""
+    pipeline = random_pipeline(source, width, source.randint(0, 2))
+    for column in source.sample(range(width), source.randint((width + 1) // 2, width)):
+        pipeline += [("unique", column)] + random_pipeline(source, width, source.randint(0, 2))
+    return pipeline
+
+
 def random_table(source, width, length, low=-2, high=2):
     return [tuple(source.randint(low, high) for _ in range(width)) for _ in range(length)]
 

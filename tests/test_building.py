@@ -1,7 +1,7 @@
 import itertools
 import unittest
 
-from helpers import BIG, COMMANDS_BY_WIDTH, Checks, numbers, random_pipeline
+from helpers import BIG, COMMANDS_BY_WIDTH, Checks, mixed_pipeline, numbers, random_pipeline
 from tablepipe.building import pipeline_of
 from tablepipe.checks import is_command
 from tablepipe.errors import InvalidForm, InvalidWidth, TableError
@@ -119,10 +119,7 @@ class Forms(Building):
         source = numbers(13)
         for number in range(3000):
             width = 2 + number % 5
-            pipeline = []
-            for column in source.sample(range(width), width):
-                pipeline += random_pipeline(source, width, source.randint(0, 2)) + [("unique", column)]
-            self.check_form(width, form_of(width, pipeline + random_pipeline(source, width, 2)))
+            self.check_form(width, form_of(width, mixed_pipeline(source, width)))
 
     def test_beyond_the_limits_there_is_no_error(self):
         source = numbers(14)

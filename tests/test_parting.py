@@ -1,7 +1,7 @@
 import itertools
 import unittest
 
-from helpers import BIG, COMMANDS_BY_WIDTH, Checks, numbers, random_pipeline, written_otherwise
+from helpers import BIG, COMMANDS_BY_WIDTH, Checks, mixed_pipeline, numbers, random_pipeline, written_otherwise
 from tablepipe.errors import InvalidCommand, InvalidWidth, TableError
 from tablepipe.forms import equivalent
 from tablepipe.parting import parting_table
@@ -196,15 +196,9 @@ class ManyPairs(Parting):
         source = numbers(9)
         for number in range(3000):
             width = 2 + number % 5
-            first = self.mixed(source, width)
-            second = self.mixed(source, width) if number % 2 else self.with_other_sorts(source, width, first)
+            first = mixed_pipeline(source, width)
+            second = mixed_pipeline(source, width) if number % 2 else self.with_other_sorts(source, width, first)
             self.check(width, first, second)
-
-    def mixed(self, source, width):
-        pipeline = []
-        for column in source.sample(range(width), width):
-            pipeline += random_pipeline(source, width, 2) + [("unique", column)]
-        return pipeline
 
     def with_other_sorts(self, source, width, pipeline):
         return [

@@ -1,7 +1,7 @@
 import itertools
 import unittest
 
-from helpers import BIG, COMMANDS_BY_WIDTH, Checks, numbers, random_pipeline, random_table
+from helpers import BIG, COMMANDS_BY_WIDTH, Checks, mixed_pipeline, numbers, random_pipeline, random_table
 from tablepipe.errors import InvalidCommand, InvalidIndex, InvalidTable, InvalidWidth, TableError
 from tablepipe.reasons import why_missing
 from tablepipe.running import positions
@@ -114,10 +114,7 @@ class ManyPipelines(unittest.TestCase):
         source = numbers(72)
         for number in range(500):
             width = 2 + number % 5
-            pipeline = []
-            for column in source.sample(range(width), width):
-                pipeline += random_pipeline(source, width, source.randint(0, 2)) + [("unique", column)]
-            self.check(width, pipeline, random_table(source, width, 15, 0, 9))
+            self.check(width, mixed_pipeline(source, width), random_table(source, width, 15, 0, 9))
 
     def test_beyond_the_limits_there_is_no_error(self):
         source = numbers(73)

@@ -1,7 +1,7 @@
 import itertools
 import unittest
 
-from helpers import BIG, COMMANDS_BY_WIDTH, Checks, numbers, random_pipeline
+from helpers import BIG, COMMANDS_BY_WIDTH, Checks, mixed_pipeline, numbers, random_pipeline
 from tablepipe.errors import InvalidCommand, InvalidNumber, InvalidWidth, TableError
 from tablepipe.forms import form_of
 from tablepipe.repeating import repeated_form
@@ -54,10 +54,7 @@ class FewRepetitions(unittest.TestCase):
         source = numbers(62)
         for number in range(400):
             width = 2 + number % 5
-            pipeline = []
-            for column in source.sample(range(width), source.randint(1, width)):
-                pipeline += random_pipeline(source, width, source.randint(0, 2)) + [("unique", column)]
-            self.check(width, pipeline + random_pipeline(source, width, source.randint(0, 2)))
+            self.check(width, mixed_pipeline(source, width))
 
     def test_beyond_the_limits_there_is_no_error(self):
         source = numbers(63)
