@@ -29,10 +29,18 @@ def table_for_turns(width, rules, other_rules):
         turn += 1
     column, keys = rules[turn]
     other_column, other_keys = other_rules[turn]
-    # The first pipeline removes the second row, and then one of the other two rows. The other pipeline removes
-    # the row of zeros first, and the second and the third row share no value that lets one of them be removed.
-    second = row_beside(width, 1, {column: 0, keys[0][0]: number_behind(keys[0], 1)})
-    third = row_beside(width, -2, {other_column: 0, other_keys[0][0]: number_behind(other_keys[0], -2)})
+    return table_for_turn(width, column, keys[0], other_column, other_keys[0])
+
+
+def table_for_turn(width, column, key, other_column, other_key):
+    """Return three rows of which one stays if a column has its turn before another one, and two if it is later.
+
+    Each key is the first one of the tie rule of the column before it.
+    """
+    # Whoever begins with the first column removes the second row, and then one of the other two rows. Whoever
+    # begins with the other column removes the row of zeros, and the two rows that are left share no value.
+    second = row_beside(width, 1, {column: 0, key[0]: number_behind(key, 1)})
+    third = row_beside(width, -2, {other_column: 0, other_key[0]: number_behind(other_key, -2)})
     return table_of(width, [second, third])
 
 

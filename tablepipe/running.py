@@ -13,6 +13,11 @@ def positions(width, pipeline, table):
     check_width(width)
     check_pipeline(width, pipeline)
     check_table(width, table)
+    return positions_left(pipeline, table)
+
+
+def positions_left(pipeline, table):
+    """Return the positions of the rows that a pipeline leaves, in order; the caller has checked both."""
     present = list(range(len(table)))
     for command in pipeline:
         present = positions_after(command, table, present)

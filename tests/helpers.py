@@ -6,6 +6,7 @@ import random
 from tablepipe.errors import InvalidCommand, InvalidTable, InvalidWidth
 
 BIG = 10 ** 12
+TURNED = {"up": "down", "down": "up"}
 COMMANDS_BY_WIDTH = {
     width: [("reverse",)] + [(name, column) for column in range(width) for name in ("sort", "sort_down", "unique")]
     for width in range(1, 8)
@@ -30,6 +31,31 @@ def mixed_pipeline(source, width):
     for column in source.sample(range(width), source.randint((width + 1) // 2, width)):
         pipeline += [("unique", column)] + random_pipeline(source, width, source.randint(0, 2))
     return pipeline
+
+
+def sorts_of_all(source, width):
+    """Sorts by every column, in some order and directions, and perhaps a reversal somewhere between them."""
+    sorts = [(source.choice(["sort", "sort_down"]), column) for column in source.sample(range(width), width)]
+    if source.random() < 0.5:
+        sorts.insert(source.randint(0, width), ("reverse",))
+    return sorts
+
+
+def full_pipeline(source, width):
+    """Unique commands of all columns, with sorts by all columns and reversals before, between and behind them."""
+    pipeline = sorts_of_all(source, width)
+    for column in source.sample(range(width), width):
+        pipeline.append(("unique", column))
+        if source.random() < 0.6:
+            pipeline += sorts_of_all(source, width)
+    return pipeline
+
+
+def pipeline_of_sixteen(source, width):
+    """Exactly sixteen commands, unique commands of all columns among them (of at most six)."""
+    uniques = [("unique", column) for column in range(width)]
+    pipeline = uniques + random_pipeline(source, width, 16 - width)
+    return source.sample(pipeline, 16)
 
 
 def random_table(source, width, length, low=-2, high=2):
@@ -59,6 +85,44 @@ def written_otherwise(source, pipeline):
             if before[0].startswith("sort") and before[1] == command[1]:
                 result[-2:] = [command, before]
     return result
+
+
+def up_to(keys, columns):
+    """The keys of an order that decide something, as a tuple."""
+    ends = [at for at, key in enumerate(keys) if key[0] in columns]
+    return tuple(keys[:ends[0] + 1] if ends else keys)
+
+
+def step(state, command):
+    """Points 9 and 10, word by word, as tuples: the list of keys and the rules behind one more command."""
+    keys, rules = state
+    if command[0] == "reverse":
+        return tuple((column, TURNED[direction]) for column, direction in keys), rules
+    others = tuple(key for key in keys if key[0] != command[1])
+    if command[0] != "unique":
+        return ((command[1], "up" if command[0] == "sort" else "down"),) + others, rules
+    columns = [column for column, _ in rules]
+    if command[1] in columns:
+        return state
+    return keys, rules + ((command[1], up_to(others, columns)),)
+
+
+def all_forms(width):
+    """Every form that a pipeline has, as tuples."""
+    found = {((("position", "up"),), ())}
+    waiting = list(found)
+    while waiting:
+        state = waiting.pop()
+        for command in COMMANDS_BY_WIDTH[width]:
+            following = step(state, command)
+            if following not in found:
+                found.add(following)
+                waiting.append(following)
+    return {(rules, up_to(keys, [column for column, _ in rules])) for keys, rules in found}
+
+
+def as_lists(rules, order):
+    return [(column, list(keys)) for column, keys in rules], list(order)
 
 
 class Checks:

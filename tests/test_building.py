@@ -1,7 +1,7 @@
 import itertools
 import unittest
 
-from helpers import BIG, COMMANDS_BY_WIDTH, Checks, mixed_pipeline, numbers, random_pipeline
+from helpers import BIG, Checks, all_forms, as_lists, mixed_pipeline, numbers, random_pipeline
 from tablepipe.building import pipeline_of
 from tablepipe.checks import is_command
 from tablepipe.errors import InvalidForm, InvalidWidth, TableError
@@ -9,45 +9,6 @@ from tablepipe.forms import form_of
 
 UP = ("position", "up")
 DOWN = ("position", "down")
-TURNED = {"up": "down", "down": "up"}
-
-
-def up_to(keys, columns):
-    """The keys of an order that decide something, as a tuple."""
-    ends = [at for at, key in enumerate(keys) if key[0] in columns]
-    return tuple(keys[:ends[0] + 1] if ends else keys)
-
-
-def step(state, command):
-    """Points 9 and 10, word by word, as tuples: the list of keys and the rules behind one more command."""
-    keys, rules = state
-    if command[0] == "reverse":
-        return tuple((column, TURNED[direction]) for column, direction in keys), rules
-    others = tuple(key for key in keys if key[0] != command[1])
-    if command[0] != "unique":
-        return ((command[1], "up" if command[0] == "sort" else "down"),) + others, rules
-    columns = [column for column, _ in rules]
-    if command[1] in columns:
-        return state
-    return keys, rules + ((command[1], up_to(others, columns)),)
-
-
-def all_forms(width):
-    """Every form that a pipeline has, as tuples."""
-    found = {((UP,), ())}
-    waiting = list(found)
-    while waiting:
-        state = waiting.pop()
-        for command in COMMANDS_BY_WIDTH[width]:
-            following = step(state, command)
-            if following not in found:
-                found.add(following)
-                waiting.append(following)
-    return {(rules, up_to(keys, [column for column, _ in rules])) for keys, rules in found}
-
-
-def as_lists(rules, order):
-    return [(column, list(keys)) for column, keys in rules], list(order)
 
 
 class Building(unittest.TestCase, Checks):
